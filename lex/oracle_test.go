@@ -183,7 +183,7 @@ func TestGapsChangeNothing(t *testing.T) {
 	}
 }
 
-// P1.3: each blank and comment, in each place between the tokens of a clause, with or without one before.
+// P1.3: each blank and comment, in each place between the tokens of two items.
 func TestGapInEachPlace(t *testing.T) {
 	text := "p(X,-5):-q(X);X=7.type t=a|b."
 	offsets, want := gone(text)
