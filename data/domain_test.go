@@ -222,9 +222,9 @@ func TestNoDomain(t *testing.T) {
 	// What has another number of arguments within is not what has it beside.
 	x = read(t, "type two(A, B) = two. type one(A) = one. type pair(A, B) = pair(A, B).")
 	beside, within := typed("two", typed("one"), integer()), typed("two", typed("one", integer()))
-	held(t, "beside", texts(data.Domain(x, typed("pair", beside, beside), 2)), "pair(two,two)")
-	held(t, "within", len(data.Domain(x, typed("pair", beside, within), 2)), 0)
-	held(t, "within", len(data.Domain(x, typed("pair", within, beside), 2)), 0)
+	held(t, "beside", texts(data.Domain(x, typed("pair", beside, beside), 3)), "pair(two,two)")
+	held(t, "within", len(data.Domain(x, typed("pair", beside, within), 3)), 0)
+	held(t, "within", len(data.Domain(x, typed("pair", within, beside), 3)), 0)
 	held(t, "no index", len(data.Domain(api.Index{}, typed("list", integer()), 2)), 0)
 	held(t, "no index", texts(data.Domain(api.Index{}, integer(), 2)), "0 1 2")
 }
